@@ -1,0 +1,1 @@
+"""Joinedfolk: the people of many houses, under one roof."""

@@ -1,0 +1,64 @@
+"""[1] nothing hangs on a clock, chance or files; the interface's names, arguments and kinds."""
+
+import ast
+import inspect
+import pathlib
+import subprocess
+import sys
+import unittest
+
+from joinedfolk import names, roofs
+
+ROOT = pathlib.Path(__file__).resolve().parent.parent
+
+
+def shape(function):
+    """The names of a function's arguments by place, and of those by name with their defaults."""
+    found = inspect.getfullargspec(function)
+    return [each for each in found.args if each != "self"], found.kwonlydefaults
+
+
+class PackageTest(unittest.TestCase):
+    def test_nothing_but_its_own_is_drawn_in(self):
+        files = sorted((ROOT / "joinedfolk").glob("*.py"))
+        self.assertTrue(files)
+        for file in files:
+            for node in ast.walk(ast.parse(file.read_text())):
+                self.assertNotIsInstance(node, ast.Import, file)
+                if isinstance(node, ast.ImportFrom):
+                    self.assertTrue(node.module.startswith("joinedfolk."), file)
+                if isinstance(node, ast.Name):
+                    self.assertNotIn(node.id, ("open", "input", "print", "id", "hash"), file)
+
+    def test_init_binds_nothing(self):
+        asks = "import joinedfolk; print([each for each in vars(joinedfolk) if not each.startswith('__')])"
+        answer = subprocess.run([sys.executable, "-c", asks], cwd=ROOT, capture_output=True, text=True, check=True)
+        self.assertEqual(answer.stdout.strip(), "[]")
+
+    def test_functions_of_names(self):
+        for word, takes in (("is_word", "thing"), ("is_name", "thing"), ("name_text", "name"), ("read_name", "text")):
+            self.assertEqual(shape(getattr(names, word)), ([takes], None))
+
+    def test_methods_of_a_roof(self):
+        takes = {
+            "found": ["house"], "come": ["kind", "word", "house"], "go": ["who"], "put_in": ["who", "group"],
+            "take_out": ["who", "group"], "call": ["who", "word"], "merge": ["house", "other"],
+            "trust": ["house", "other"], "mistrust": ["house", "other"], "take_back": [], "time": [], "houses": [],
+            "ranges": ["house"], "everyone": ["house"], "name": ["who"], "number": ["name"], "members": ["group"],
+            "trusted": ["house"], "__init__": [],
+        }
+        for word in takes:
+            self.assertEqual(shape(getattr(roofs.Roof, word)), (takes[word], None), word)
+        self.assertEqual(shape(roofs.Roof.move), (["who", "house"], {"word": None}))
+
+    def test_word_of_move_is_handed_in_by_name_alone(self):
+        roof = roofs.Roof()
+        roof.found("oak")
+        who = roof.come("one", "ann", "oak")
+        with self.assertRaises(TypeError):
+            roof.move(who, "oak", "bea")
+        self.assertEqual(roof.move(who, "oak", word="bea"), ("one", "bea", "oak"))
+
+
+if __name__ == "__main__":
+    unittest.main()
