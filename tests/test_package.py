@@ -7,7 +7,7 @@ import subprocess
 import sys
 import unittest
 
-from joinedfolk import names, roofs
+from joinedfolk import chains, names, roofs, rules, texts, times
 
 ROOT = pathlib.Path(__file__).resolve().parent.parent
 
@@ -38,6 +38,40 @@ class PackageTest(unittest.TestCase):
     def test_functions_of_names(self):
         for word, takes in (("is_word", "thing"), ("is_name", "thing"), ("name_text", "name"), ("read_name", "text")):
             self.assertEqual(shape(getattr(names, word)), ([takes], None))
+
+    def test_functions_of_the_later_stages(self):
+        takes = {
+            chains: {
+                "is_in": ["roof", "who", "group"], "chain": ["roof", "who", "group"], "groups_of": ["roof", "who"],
+                "all_in": ["roof", "group"], "shows_in": ["roof", "who", "group", "thing"],
+                "outside": ["roof", "who", "group"], "shows_out": ["roof", "who", "group", "thing"],
+            },
+            rules: {
+                "may": ["roof", "rules", "who", "thing"], "reason": ["roof", "rules", "who", "thing"],
+                "needless": ["roof", "rules"], "parted": ["roof", "rules", "other"],
+            },
+            times: {
+                "journal": ["roof"], "played": ["rows"], "as_of": ["roof", "time"], "changed": ["roof", "early", "late"],
+                "since": ["roof", "who", "group"], "blamed": ["roof", "who", "group"],
+            },
+            texts: {"journal_text": ["rows"], "read_journal": ["text"]},
+        }
+        for module, functions in takes.items():
+            for word in functions:
+                self.assertEqual(shape(getattr(module, word)), (functions[word], None), word)
+
+    def test_size_and_signs_of_the_files(self):
+        for file in sorted((ROOT / "joinedfolk").iterdir()):
+            if file.name == "__pycache__":
+                continue
+            lines = file.read_text().split("\n")
+            self.assertLessEqual(len(lines), 400, file)
+            for line in lines:
+                self.assertLessEqual(len(line), 120, file)
+                self.assertTrue(all([" " <= sign <= "~" for sign in line]), file)
+            for node in ast.walk(ast.parse(file.read_text())):
+                if isinstance(node, ast.FunctionDef):
+                    self.assertLessEqual(node.end_lineno - node.lineno + 1, 40, (file, node.name))
 
     def test_methods_of_a_roof(self):
         takes = {

@@ -5,34 +5,7 @@ import unittest
 
 from joinedfolk.errors import Nothing, RoofError
 from joinedfolk.roofs import Roof
-from telling import refused, told, two_houses
-
-HOUSES = ("a", "b", "c", "d")
-WORDS = ("ann", "ann2", "bob", "abcdefgh", "abcdefg2")
-
-
-def a_deed(chance, roof):
-    """A deed with arguments that often are refused: (name, arguments)."""
-    there = [who for house in roof.houses() for who in roof.everyone(house)]
-    one = lambda: chance.choice(there + [99])
-    house = lambda: chance.choice(HOUSES)
-    word = lambda: chance.choice(WORDS)
-    kind = lambda: chance.choice(("one", "group"))
-    deeds = {
-        "found": lambda: (house(),), "come": lambda: (kind(), word(), house()), "go": lambda: (one(),),
-        "put_in": lambda: (one(), one()), "take_out": lambda: (one(), one()), "call": lambda: (one(), word()),
-        "move": lambda: (one(), house(), chance.choice((None, word()))), "merge": lambda: (house(), house()),
-        "trust": lambda: (house(), house()), "mistrust": lambda: (house(), house()),
-    }
-    often = ("come", "put_in", "put_in", "trust", "found")
-    name = chance.choice(tuple(deeds) + often)
-    return name, deeds[name]()
-
-
-def do(roof, name, things):
-    if name == "move":
-        return roof.move(things[0], things[1], word=things[2])
-    return getattr(roof, name)(*things)
+from telling import a_deed, do, refused, told, two_houses
 
 
 def played(rows):
